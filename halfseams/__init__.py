@@ -1,0 +1,1 @@
+"""Halfseams: skins of patches, kept by half seams."""

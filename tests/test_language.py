@@ -1,0 +1,122 @@
+"""Those rules of ../shared/LANGUAGE.md that are plainly counted or looked up, over the files of the package."""
+
+import ast
+import re
+import unittest
+from pathlib import Path
+
+PACKAGE = Path(__file__).resolve().parent.parent / "halfseams"
+BARRED_WORDS = (
+    "type", "typing", "typing_extensions", "enum", "Enum", "IntEnum", "StrEnum", "Flag", "IntFlag", "Generic",
+    "Protocol", "ABC", "ABCMeta", "namedtuple", "NamedTuple", "TypedDict", "TYPE_CHECKING", "abstractmethod")
+BARRED_PARTS = ("dataclass", "overload", "contextmanager")
+BARRED_NODES = (
+    ast.Global, ast.AsyncFunctionDef, ast.AsyncFor, ast.AsyncWith, ast.Await, ast.Import, ast.Div)
+BUILTINS = (
+    "len range enumerate zip min max sum abs sorted reversed int str bool bytes list tuple dict set frozenset "
+    "isinstance ord repr any all divmod super Exception ValueError TypeError KeyError IndexError LookupError "
+    "ZeroDivisionError ArithmeticError OverflowError RuntimeError NotImplementedError AttributeError "
+    "StopIteration NotImplemented").split()
+DUNDERS = ("__init__",)
+
+
+def sources():
+    return [(path, path.read_text(encoding="utf-8")) for path in sorted(PACKAGE.glob("*.py"))]
+
+
+def trees():
+    return [(path.name, ast.parse(text)) for path, text in sources()]
+
+
+def bound_names(tree):
+    """All names that a file binds or takes as parameters."""
+    found = set()
+    for node in ast.walk(tree):
+        if isinstance(node, (ast.FunctionDef, ast.ClassDef)):
+            found.add(node.name)
+        elif isinstance(node, ast.arg):
+            found.add(node.arg)
+        elif isinstance(node, ast.Name) and isinstance(node.ctx, ast.Store):
+            found.add(node.id)
+        elif isinstance(node, ast.alias):
+            found.add(node.asname or node.name)
+    return found
+
+
+class TestLanguage(unittest.TestCase):
+    def test_the_folder_has_only_plain_files(self):
+        for path in PACKAGE.iterdir():
+            if path.name != "__pycache__":
+                self.assertRegex(path.name, r"\A(__init__|[a-z][a-z0-9_]*)\.py\Z")
+                self.assertTrue(path.is_file())
+
+    def test_characters_words_and_sizes(self):
+        for path, text in sources():
+            with self.subTest(path.name):
+                self.assertRegex(text, r"\A[ -~\n]*\Z")
+                lines = text.splitlines()
+                self.assertLessEqual(len(lines), 400)
+                self.assertLessEqual(max(len(line) for line in lines), 120)
+                self.assertEqual([word for word in re.findall(r"\w+", text) if word in BARRED_WORDS], [])
+                self.assertEqual([part for part in BARRED_PARTS if part in text], [])
+
+    def test_functions_are_short(self):
+        for name, tree in trees():
+            for node in ast.walk(tree):
+                if isinstance(node, ast.FunctionDef):
+                    self.assertLessEqual(node.end_lineno - node.lineno + 1, 40, (name, node.name))
+
+    def test_no_barred_statements_or_values(self):
+        for name, tree in trees():
+            for node in ast.walk(tree):
+                self.assertNotIsInstance(node, BARRED_NODES, (name, getattr(node, "lineno", 0)))
+                if isinstance(node, ast.Constant):
+                    self.assertNotIsInstance(node.value, (float, complex), (name, node.lineno))
+                    if isinstance(node.value, str):
+                        self.assertNotIn("%", node.value, (name, node.lineno))
+
+    def test_module_level(self):
+        allowed = (ast.ImportFrom, ast.FunctionDef, ast.ClassDef, ast.Assign)
+        for name, tree in trees():
+            self.assertIsInstance(ast.get_docstring(tree), str, name)
+            for node in tree.body[1:]:
+                self.assertIsInstance(node, allowed, (name, node.lineno))
+
+    def test_imports_name_the_file_that_defines_the_name_and_go_one_way(self):
+        needs = {}
+        defined = {}
+        for name, tree in trees():
+            module = "halfseams." + name[:-3]
+            needs[module] = set()
+            defined[module] = bound_names(ast.Module([node for node in tree.body
+                                                      if not isinstance(node, ast.ImportFrom)], []))
+            for node in ast.walk(tree):
+                if isinstance(node, ast.ImportFrom):
+                    needs[module].add(node.module)
+                    self.assertIn(node, tree.body)
+        for name, tree in trees():
+            for node in tree.body:
+                if isinstance(node, ast.ImportFrom):
+                    self.assertEqual(node.level, 0)
+                    for alias in node.names:
+                        self.assertIn(alias.name, defined.get(node.module, ()), (name, node.lineno))
+        while needs:
+            ready = [module for module in needs if not needs[module] & set(needs)]
+            self.assertTrue(ready, needs)
+            for module in ready:
+                del needs[module]
+
+    def test_names(self):
+        for name, tree in trees():
+            bound = bound_names(tree)
+            for one in bound:
+                if one not in DUNDERS:
+                    self.assertRegex(one, r"\A[A-Za-z][A-Za-z0-9_]*\Z", name)
+                self.assertNotIn(one, BUILTINS, name)
+            for node in ast.walk(tree):
+                if isinstance(node, ast.Name) and isinstance(node.ctx, ast.Load):
+                    self.assertIn(node.id, bound | set(BUILTINS), (name, node.lineno))
+
+
+if __name__ == "__main__":
+    unittest.main()
