@@ -86,6 +86,33 @@ def rims(skin):
     return each_once(mateless, lambda half: rim_of(skin, half))
 
 
+def knot_places(skin):
+    """A list of the place of each half seam's knot among all knots."""
+    places = [0] * len(skin[0])
+    for place, knot in enumerate(knots(skin)):
+        for half in knot:
+            places[half] = place
+    return places
+
+
+def patches_by(skin, places):
+    """All patches, each half seam told by what stands in its place in the list."""
+    return tuple([tuple([places[half] for half in patch]) for patch in patches(skin)])
+
+
+def is_at_rim(skin, half):
+    """Whether the knot of half lies at a rim."""
+    return skin[1][first_of_knot(skin, half)] is None
+
+
+def seam_of(skin, half):
+    """The half seams of the seam of half, half first."""
+    mate = skin[1][half]
+    if mate is None:
+        return (half,)
+    return half, mate
+
+
 def all_halves(skin):
     """All half seams of the skin, rising."""
     return list(range(len(skin[0])))

@@ -94,6 +94,21 @@ BY_HAND = (
          patches=((0, 2, 4), (1,), (3, 5)), rims=((0, 2, 4), (1,))),
 )
 
+LONE = BY_HAND[0].skin
+TWO_SINGLES = BY_HAND[4].skin
+PATCH_OF_MATES = BY_HAND[5].skin
+PURSE = BY_HAND[6].skin
+TWO_TRIANGLES = BY_HAND[7].skin
+PILLOW = BY_HAND[8].skin
+HANDLE = BY_HAND[9].skin
+TUBE = BY_HAND[10].skin
+TWO_SQUARES = BY_HAND[11].skin
+BALL = BY_HAND[13].skin
+FAN = BY_HAND[12].skin
+
+# Of the ball without the seam of 0 and 8, when those above have come down.
+BALL_MATES = (9, 2, 1, 8, 5, 4, 7, 6, 3, 0)
+
 
 def all_matings(free):
     """All ways to give the half seams of a rising list mates or none, as dicts."""
@@ -116,8 +131,24 @@ def small_skins(most):
                 yield onward, mates
 
 
-def grid(rows, columns, closed):
-    """Squares in rows and columns; closed: the last ones are sewn to the first ones."""
+def lengths_of(many, most):
+    """All falling lists of lengths, none above most, that make so many."""
+    if many == 0:
+        return [[]]
+    return [[first] + rest for first in range(min(many, most), 0, -1) for rest in lengths_of(many - first, first)]
+
+
+def one_of_each(many):
+    """Of all skins of so many half seams one at least of each that are alike."""
+    matings = [tuple(mating[half] for half in range(many)) for mating in all_matings(list(range(many)))]
+    for lengths in lengths_of(many, many):
+        onward = side_by_side(*[ring(length) for length in lengths])[0]
+        for mates in matings:
+            yield onward, mates
+
+
+def net(rows, columns, closed_down, closed_aside):
+    """Squares in rows and columns; closed: the last row, or column, is sewn to the first one."""
     onward = []
     mates = []
     for row in range(rows):
@@ -126,12 +157,17 @@ def grid(rows, columns, closed):
             onward.extend([square + 1, square + 2, square + 3, square])
             for side, (down, aside) in enumerate(((-1, 0), (0, 1), (1, 0), (0, -1))):
                 there, beside = row + down, column + aside
-                if closed or (0 <= there < rows and 0 <= beside < columns):
+                if (closed_down or 0 <= there < rows) and (closed_aside or 0 <= beside < columns):
                     other = 4 * ((there % rows) * columns + beside % columns)
                     mates.append(other + (side + 2) % 4)
                 else:
                     mates.append(None)
     return tuple(onward), tuple(mates)
+
+
+def grid(rows, columns, closed):
+    """Squares in rows and columns, closed both ways round or no way."""
+    return net(rows, columns, closed, closed)
 
 
 def ring(many):
@@ -147,6 +183,29 @@ def single_patches(many):
 def opposite(many):
     """One patch of an even count of half seams, each mated with the one across."""
     return ring(many)[0], tuple((half + many // 2) % many for half in range(many))
+
+
+def side_by_side(*skins):
+    """One skin of the parts of all these, one behind the other."""
+    onward = []
+    mates = []
+    for more_onward, more_mates in skins:
+        first = len(onward)
+        onward.extend(first + behind for behind in more_onward)
+        mates.extend(None if mate is None else first + mate for mate in more_mates)
+    return tuple(onward), tuple(mates)
+
+
+def renumbered(skin, seed):
+    """The skin with other numbers, in an order that hangs on the seed alone, and the tuple of the new numbers."""
+    onward, mates = skin
+    new = shuffled(range(len(onward)), seed)
+    new_onward = [0] * len(new)
+    new_mates = [None] * len(new)
+    for half in range(len(new)):
+        new_onward[new[half]] = new[onward[half]]
+        new_mates[new[half]] = None if mates[half] is None else new[mates[half]]
+    return (tuple(new_onward), tuple(new_mates)), tuple(new)
 
 
 def shuffled(things, seed):

@@ -18,6 +18,17 @@ BUILTINS = (
     "ZeroDivisionError ArithmeticError OverflowError RuntimeError NotImplementedError AttributeError "
     "StopIteration NotImplemented").split()
 DUNDERS = ("__init__",)
+BARRED_NAMES = (
+    "register mro elements open input version_info with_traceback add_note attrgetter breakpoint builtins compile "
+    "copyright credits delattr dir eval exec exit gc getattr globals hasattr help id importlib license locals "
+    "methodcaller os quit setattr type vars sys").split()
+AT_ONCE = ("range", "zip", "enumerate", "reversed")
+TAKERS = ("list", "tuple", "dict", "sorted", "sum", "any", "all", "enumerate", "zip", "min", "max")
+METHODS = (
+    "append clear copy count endswith extend find get index insert isalnum isalpha isdigit islower isspace isupper "
+    "items join keys ljust lower lstrip partition pop remove replace reverse rfind rjust rpartition rsplit rstrip "
+    "setdefault split splitlines startswith strip update upper values zfill bit_length add discard sort "
+    "__init__").split()
 
 
 def sources():
@@ -116,6 +127,60 @@ class TestLanguage(unittest.TestCase):
             for node in ast.walk(tree):
                 if isinstance(node, ast.Name) and isinstance(node.ctx, ast.Load):
                     self.assertIn(node.id, bound | set(BUILTINS), (name, node.lineno))
+
+    def test_no_local_has_the_name_of_an_import_or_a_class_of_its_file(self):
+        for name, tree in trees():
+            taken = {alias.asname or alias.name for node in tree.body if isinstance(node, ast.ImportFrom)
+                     for alias in node.names}
+            taken |= {node.name for node in tree.body if isinstance(node, ast.ClassDef)}
+            rest = ast.Module([node for node in tree.body if not isinstance(node, (ast.ImportFrom, ast.ClassDef))], [])
+            self.assertEqual(bound_names(rest) & taken, set(), name)
+
+    def test_barred_names(self):
+        for name, tree in trees():
+            used = bound_names(tree) | {node.attr for node in ast.walk(tree) if isinstance(node, ast.Attribute)}
+            self.assertEqual([one for one in used if one in BARRED_NAMES], [], name)
+
+    def test_what_is_iterated_at_once(self):
+        for name, tree in trees():
+            allowed = set()
+            for node in ast.walk(tree):
+                if isinstance(node, (ast.For, ast.comprehension)):
+                    allowed.add(node.iter)
+                elif isinstance(node, ast.Call) and isinstance(node.func, ast.Name) and node.func.id in TAKERS:
+                    allowed.update(node.args)
+            for node in ast.walk(tree):
+                if isinstance(node, ast.Call) and node not in allowed:
+                    if isinstance(node.func, ast.Name):
+                        self.assertNotIn(node.func.id, AT_ONCE, (name, node.lineno))
+                    if isinstance(node.func, ast.Attribute):
+                        self.assertNotIn(node.func.attr, ("items", "keys", "values"), (name, node.lineno))
+
+    def test_methods(self):
+        own = {node.name for name, tree in trees() for one in tree.body if isinstance(one, ast.ClassDef)
+               for node in one.body if isinstance(node, ast.FunctionDef)}
+        for name, tree in trees():
+            for node in ast.walk(tree):
+                if isinstance(node, ast.Attribute) and isinstance(node.ctx, ast.Store):
+                    self.assertNotIn(node.attr, own, (name, node.lineno))
+                if isinstance(node, ast.Call) and isinstance(node.func, ast.Attribute):
+                    self.assertIn(node.func.attr, list(own) + METHODS, (name, node.lineno))
+
+    def test_is_only_with_none_and_truths(self):
+        for name, tree in trees():
+            for node in ast.walk(tree):
+                if isinstance(node, ast.Compare):
+                    for sign, other in zip(node.ops, node.comparators):
+                        if isinstance(sign, (ast.Is, ast.IsNot)):
+                            self.assertIsInstance(other, ast.Constant, (name, node.lineno))
+                            self.assertIn(other.value, (None, True, False), (name, node.lineno))
+
+    def test_raise_makes_its_error_on_the_spot(self):
+        for name, tree in trees():
+            for node in ast.walk(tree):
+                if isinstance(node, ast.Raise) and node.exc is not None:
+                    self.assertIsInstance(node.exc, ast.Call, (name, node.lineno))
+                    self.assertIsInstance(node.exc.func, ast.Name, (name, node.lineno))
 
 
 if __name__ == "__main__":

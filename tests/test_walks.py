@@ -5,6 +5,7 @@ import unittest
 from halfseams.errors import NoHalf, NoRim
 from halfseams.walks import (
     ahead_of, knots, left_of, patch_of, patches, right_of, rim_of, rims, round_knot, seams)
+from tests.checks import made_as_told
 from tests.samples import BY_HAND, grid, opposite, ring, single_patches
 
 OF_A_HALF = (ahead_of, left_of, right_of, round_knot, patch_of, rim_of)
@@ -15,13 +16,6 @@ def from_one(walk, half):
     """A walk that comes round, begun with half."""
     at = walk.index(half)
     return walk[at:] + walk[:at]
-
-
-def made_as_told(thing):
-    """Whether thing is made of tuples, whole numbers that are no truths, and None."""
-    if type(thing) is tuple:
-        return all(made_as_told(part) for part in thing)
-    return thing is None or type(thing) is int
 
 
 class TestSteps(unittest.TestCase):

@@ -4,20 +4,8 @@ import unittest
 
 from halfseams.walks import (
     ahead_of, knots, left_of, patch_of, patches, right_of, rim_of, rims, round_knot, seams)
+from tests.by_words import classes
 from tests.samples import BY_HAND, large_skins, middle_skins, small_skins
-
-
-def classes(many, links):
-    """The rising tuples of what hangs together by the links, by their least members."""
-    known = list(range(many))
-    for one, other in links:
-        old, new = known[other], known[one]
-        if old != new:
-            known = [new if mark == old else mark for mark in known]
-    found = {}
-    for half, mark in enumerate(known):
-        found.setdefault(mark, []).append(half)
-    return tuple(sorted(tuple(members) for members in found.values()))
 
 
 def many_skins():
