@@ -44,8 +44,8 @@ def is_mergeable(skin, half):
     far = mates[behind]
     if behind == half or behind == mate:
         return False
-    if mate is None or far is None:
-        return mate is None and far is None
+    if far is None:
+        return mate is None
     return onward[far] == mate
 
 
