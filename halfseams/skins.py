@@ -53,4 +53,4 @@ def is_mated(mates, half):
 def check_half(skin, half):
     """Refuse a number that is no half seam of the skin."""
     if not 0 <= half < len(skin[0]):
-        raise NoHalf(f"{half} is no half seam of this skin")
+        raise NoHalf("the skin has no half seam of this number")

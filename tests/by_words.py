@@ -326,12 +326,22 @@ class Cloth:
         return "rim" if self.mates[h] is None else None
 
 
-def behind(skin, deed):
-    """The skin behind a deed that is not refused."""
+def cloth_behind(skin, deed):
+    """The cloth behind a deed that is not refused."""
     cloth = Cloth(skin)
     word = "open_up" if deed[0] == "open" else deed[0]
     getattr(cloth, word)(*deed[1:])
-    return cloth.skin()
+    return cloth
+
+
+def behind(skin, deed):
+    """The skin behind a deed that is not refused."""
+    return cloth_behind(skin, deed).skin()
+
+
+def labels_behind(skin, deed):
+    """Which half seam each one behind the deed was ahead of it, in order; new ones from the count of half seams on."""
+    return sorted(cloth_behind(skin, deed).mates)
 
 
 def totals_of(skin):
