@@ -48,3 +48,8 @@ def totals(skin):
     rows = counts(skin)
     sums = [sum(column) for column in zip(*rows)]
     return (*sums, len(rows))
+
+
+def changes(first, then):
+    """By how much each number is more then than it was first."""
+    return tuple([more - less for less, more in zip(first, then)])

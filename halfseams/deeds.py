@@ -1,6 +1,6 @@
 """Deeds as tuples of a word and numbers: done to skins, led back, and told ahead."""
 
-from halfseams.counts import totals
+from halfseams.counts import changes, totals
 from halfseams.cuts import cut, folded, joined, merged, puffed, split, turned, unturned
 from halfseams.knotwork import drawn, grown, parted
 from halfseams.rimwork import capped, opened, ripped, sewn
@@ -165,5 +165,4 @@ def back_of_fold(skin, half):
 
 def foretold(skin, deed):
     """By how much each of the totals is more behind the deed."""
-    first, then = totals(skin), totals(done(skin, deed))
-    return tuple([more - less for less, more in zip(first, then)])
+    return changes(totals(skin), totals(done(skin, deed)))

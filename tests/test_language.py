@@ -51,6 +51,8 @@ def bound_names(tree):
             found.add(node.id)
         elif isinstance(node, ast.alias):
             found.add(node.asname or node.name)
+        elif isinstance(node, (ast.MatchAs, ast.MatchStar)) and node.name is not None:
+            found.add(node.name)
     return found
 
 
@@ -135,6 +137,12 @@ class TestLanguage(unittest.TestCase):
             taken |= {node.name for node in tree.body if isinstance(node, ast.ClassDef)}
             rest = ast.Module([node for node in tree.body if not isinstance(node, (ast.ImportFrom, ast.ClassDef))], [])
             self.assertEqual(bound_names(rest) & taken, set(), name)
+            # A method may have such a name, what it binds may not.
+            methods = [node for one in tree.body if isinstance(one, ast.ClassDef) for node in one.body
+                       if isinstance(node, ast.FunctionDef)]
+            for method in methods:
+                within = ast.Module([method.args, *method.body], [])
+                self.assertEqual(bound_names(within) & taken, set(), (name, method.name))
 
     def test_barred_names(self):
         for name, tree in trees():

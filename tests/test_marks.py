@@ -16,6 +16,16 @@ NO_MARKS = (
     "", "abcdefghi", "A", "aB", "Abc", "abC", "a1", "1", "0", "a b", " ", " a", "a ", "a\n", "\n", "-", "a-b", "_", "~",
     "`", "{", "a.", "zzzzzzzzz", "\u00e4", "\u03b1", "\u00df", 0, 1, -1, 97, True, False, (), ("a",), (N,), [], ["a"], b"a",
     1.0)
+# Deeds with what they are refused with.
+REFUSED_DEEDS = (
+    (LONE, ("split", 1), "NoHalf"), (LONE, ("split", -1), "NoHalf"), (LONE, ("merge", 0), "knot"),
+    (LONE, ("join", 0), "rim"), (LONE, ("turn", 0), "rim"), (LONE, ("unturn", 0), "rim"), (LONE, ("fold", 0), "two"),
+    (LONE, ("draw", 0), "loop"), (LONE, ("open", 0), "rim"), (LONE, ("rip", 0), "rim"),
+    (LONE, ("sew", 0, 0), "Unlike"), (LONE, ("sew", 0, 1), "NoHalf"), (TWO_SINGLES, ("join", 0), "last"),
+    (TWO_SINGLES, ("grow", 0), "inner"), (TWO_SINGLES, ("cap", 0), "NoRim"), (TWO_SINGLES, ("sew", 0, 1), "NoRim"),
+    (TWO_SINGLES, ("cut", 0, 1), "Unlike"), (PATCH_OF_MATES, ("join", 0), "one"), (PATCH_OF_MATES, ("fold", 0), "last"),
+    (PATCH_OF_MATES, ("draw", 0), "last"), (PATCH_OF_MATES, ("part", 0, 1), "Unlike"),
+    (TWO_TRIANGLES, ("draw", 0), "rims"))
 
 
 def named(many):
@@ -80,7 +90,7 @@ class TestByHand(unittest.TestCase):
         self.assert_carried(TWO_SINGLES, "ab", (("rip", 0), "ab"), (("rip", 1), "ab"))
 
     def test_long_and_short_words(self):
-        for word in ("a", "z", "az", "abcdefgh", "zzzzzzzz", "none", "mark"):
+        for word in ("a", "z", "az", "abcdefgh", "ijklmnop", "qrstuvwx", "yz", "zzzzzzzz", "none", "mark"):
             self.assertEqual(carried(LONE, (word,), ("split", 0)), (word, word))
             self.assertEqual(carried(TWO_SINGLES, (N, word), ("puff", 0)), (N, word, N, N))
 
@@ -125,19 +135,9 @@ class TestNoMarks(unittest.TestCase):
                 self.assert_none(PURSE, tuple(marks), ("sew", 9, 9))
 
     def test_ahead_of_the_refusals_of_the_deed(self):
-        for skin, deed, wanted in (
-                (LONE, ("split", 1), "NoHalf"), (LONE, ("split", -1), "NoHalf"), (LONE, ("merge", 0), "knot"),
-                (LONE, ("join", 0), "rim"), (LONE, ("turn", 0), "rim"), (LONE, ("unturn", 0), "rim"),
-                (LONE, ("fold", 0), "two"), (LONE, ("draw", 0), "loop"), (LONE, ("open", 0), "rim"),
-                (LONE, ("rip", 0), "rim"), (LONE, ("sew", 0, 0), "Unlike"), (LONE, ("sew", 0, 1), "NoHalf"),
-                (TWO_SINGLES, ("join", 0), "last"), (TWO_SINGLES, ("grow", 0), "inner"),
-                (TWO_SINGLES, ("cap", 0), "NoRim"), (TWO_SINGLES, ("sew", 0, 1), "NoRim"),
-                (TWO_SINGLES, ("cut", 0, 1), "Unlike"), (PATCH_OF_MATES, ("join", 0), "one"),
-                (PATCH_OF_MATES, ("fold", 0), "last"), (PATCH_OF_MATES, ("draw", 0), "last"),
-                (PATCH_OF_MATES, ("part", 0, 1), "Unlike"), (TWO_TRIANGLES, ("draw", 0), "rims"),
-                (ring(400), ("split", 0), "TooMany"), (ring(400), ("cut", 0, 0), "TooMany"),
-                (ring(400), ("puff", 0), "TooMany"), (ring(400), ("part", 0, 0), "TooMany"),
-                (ring(400), ("grow", 0), "TooMany"), (ring(400), ("cap", 0), "TooMany")):
+        too_many = [(ring(400), deed, "TooMany") for deed in (
+            ("split", 0), ("cut", 0, 0), ("puff", 0), ("part", 0, 0), ("grow", 0), ("cap", 0))]
+        for skin, deed, wanted in (*REFUSED_DEEDS, *too_many):
             many = len(skin[0])
             self.assert_none(skin, (N,) * (many - 1), deed)
             self.assert_none(skin, (N,) * (many + 1), deed)
